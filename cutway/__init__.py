@@ -1,0 +1,1 @@
+"""Cutway: records of hands that write letters, and the cuts through them."""
