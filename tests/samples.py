@@ -2,6 +2,11 @@
 
 import itertools
 
+# The letter 7 goes from hand 0 to hand 1.
+ONE_LETTER = [
+    [("own", 0, 5), ("send", 7, 6)],
+    [("take", 7, -3), ("own", 0, 1)],
+]
 # Letters reach over four hands: 0 to 1, 1 to 2, 2 to 3; hand 3 also takes a letter of its own.
 FOUR_HANDS = [
     [("own", 0, 1), ("send", 0, 2), ("own", 0, 3)],
@@ -59,6 +64,57 @@ def small_rows():
                 rows.append(rest[:length])
                 rest = rest[length:]
             yield rows
+
+
+def kept_rows(many):
+    """Those of the rows that no record refuses."""
+    return [rows for rows in many if not letters_are_bad(rows) and not leads_round(rows)]
+
+
+def slow_can_be(rows, cut):
+    had = [(hand, at) for hand, at in all_events(rows) if at < cut[hand]]
+    missed = [(hand, at) for hand, at in all_events(rows) if at >= cut[hand]]
+    return not any(leads_straight(rows, one, other) for one in missed for other in had)
+
+
+def slow_cuts(rows):
+    """All cuts that can be, in the order of the document."""
+    every = itertools.product(*[range(len(row) + 1) for row in rows])
+    return sorted([cut for cut in every if slow_can_be(rows, cut)], key=lambda cut: (sum(cut), cut))
+
+
+def with_one_more(cut, hand):
+    return tuple(count + (1 if at == hand else 0) for at, count in enumerate(cut))
+
+
+def slow_walks(rows, cuts):
+    """All walks to the end, out of every order in which the hands might come."""
+    hands = [hand for hand, row in enumerate(rows) for event in row]
+    return [list(walk) for walk in sorted(set(itertools.permutations(hands))) if walk_cuts(rows, walk, cuts)]
+
+
+def walk_cuts(rows, walk, cuts):
+    """The cuts of a walk from the beginning, or None where one of them cannot be."""
+    here = tuple(0 for row in rows)
+    told = [here]
+    for hand in walk:
+        here = with_one_more(here, hand)
+        if here not in cuts:
+            return None
+        told.append(here)
+    return told
+
+
+def slow_value(rows, cut, hand):
+    return ([0] + [event[2] for event in rows[hand][:cut[hand]]])[-1]
+
+
+def slow_holds(rows, cut, wish):
+    signs = {"<": int.__lt__, "=": int.__eq__, ">": int.__gt__}
+    return any(
+        all(signs[sign](slow_value(rows, cut, hand), number) for hand, sign, number in way)
+        for way in wish
+    )
 
 
 def full_rows(count):

@@ -2,6 +2,7 @@ import unittest
 
 from cutway.errors import BadLetter, NoEvent, Ring
 from cutway.records import Record
+from refusals import check_refused
 from samples import FOUR_HANDS, all_events, copied, full_rows, leads_round, leads_straight, letters_are_bad, small_rows
 
 
@@ -91,8 +92,7 @@ class KeptRowsTest(unittest.TestCase):
 
 class NoEventTest(unittest.TestCase):
     def check_none(self, record, hand, at):
-        with self.assertRaises(NoEvent):
-            record.event(hand, at)
+        check_refused(self, NoEvent, record.event, hand, at)
 
     def test_places_that_no_event_has(self):
         record = Record(FOUR_HANDS)
@@ -114,8 +114,7 @@ class NoEventTest(unittest.TestCase):
 class BadLetterTest(unittest.TestCase):
     def check_bad(self, rows):
         kept = copied(rows)
-        with self.assertRaises(BadLetter):
-            Record(rows)
+        check_refused(self, BadLetter, Record, rows)
         self.assertEqual(rows, kept)
 
     def test_sent_twice(self):
@@ -156,10 +155,8 @@ class BadLetterTest(unittest.TestCase):
 class RingTest(unittest.TestCase):
     def check_ring(self, rows):
         kept = copied(rows)
-        with self.assertRaises(Ring) as caught:
-            Record(rows)
+        events = check_refused(self, Ring, Record, rows).events
         self.assertEqual(rows, kept)
-        events = caught.exception.events
         self.assertIsInstance(events, list)
         self.assertGreaterEqual(len(events), 2)
         for event in events:

@@ -3,6 +3,7 @@ import unittest
 from cutway.errors import NoEvent, RecordError
 from cutway.records import Record
 from cutway.ways import came_ahead, clock, road, straight
+from refusals import check_refused
 from samples import FOUR_HANDS, all_events, copied, full_rows, leads_straight, pairs_ahead, small_rows
 
 
@@ -126,34 +127,30 @@ class ClockTest(unittest.TestCase):
 class NoEventTest(unittest.TestCase):
     PLACES = ((0, 3), (2, 2), (4, 0), (-1, 0), (0, -1), (-1, -1), (3, -4), (-5, 0), (0, 1000), (1000, 0))
 
-    def check_refused(self, call, *handed_in):
-        with self.assertRaises(NoEvent):
-            call(Record(FOUR_HANDS), *handed_in)
+    def check_none(self, call, *handed_in):
+        check_refused(self, NoEvent, call, Record(FOUR_HANDS), *handed_in)
 
     def test_straight_and_clock(self):
         for place in self.PLACES:
-            self.check_refused(straight, place)
-            self.check_refused(clock, place)
+            self.check_none(straight, place)
+            self.check_none(clock, place)
 
     def test_came_ahead_and_road_in_either_place(self):
         for place in self.PLACES:
             for call in (came_ahead, road):
-                self.check_refused(call, place, (0, 0))
-                self.check_refused(call, (0, 0), place)
-                self.check_refused(call, (3, 3), place)
-                self.check_refused(call, place, (3, 3))
-                self.check_refused(call, place, place)
+                self.check_none(call, place, (0, 0))
+                self.check_none(call, (0, 0), place)
+                self.check_none(call, (3, 3), place)
+                self.check_none(call, place, (3, 3))
+                self.check_none(call, place, place)
 
     def test_a_hand_without_events(self):
         record = Record([[], [("own", 0, 1)]])
         for call in (straight, clock):
-            with self.assertRaises(NoEvent):
-                call(record, (0, 0))
+            check_refused(self, NoEvent, call, record, (0, 0))
         for call in (came_ahead, road):
-            with self.assertRaises(NoEvent):
-                call(record, (0, 0), (1, 0))
-            with self.assertRaises(NoEvent):
-                call(record, (1, 0), (0, 0))
+            check_refused(self, NoEvent, call, record, (0, 0), (1, 0))
+            check_refused(self, NoEvent, call, record, (1, 0), (0, 0))
 
 
 class EveryRecordTest(unittest.TestCase):
